@@ -19,8 +19,8 @@ func clamp(n, most int) int { return max(1, min(n, most)) }
 func maskOf(r *api.Repair) mask.Mask { return mask.Mask{Hi: r.Hi, Lo: r.Lo} }
 
 func (d *Decoder) stored(seq uint16) ([]byte, bool) {
-	b, ok := d.packets[seq]
-	return b, ok
+	p, ok := d.packets[seq]
+	return p.data, ok
 }
 
 func (d *Decoder) isStored(seq uint16) bool {
@@ -28,17 +28,18 @@ func (d *Decoder) isStored(seq uint16) bool {
 	return ok
 }
 
-// within tells whether a number is within the window that a newest one ends. If there
-// is no packet yet, that is 0, and every number is.
-func (d *Decoder) within(seq uint16, newest int64) bool {
-	return d.numbers.Peek(seq) > newest-int64(clamp(d.w, api.MaxMedia))
+// within tells whether an extended number is within the window. If there is no packet
+// yet, the newest number is 0, and every number is.
+func (d *Decoder) within(at int64) bool {
+	return at > d.numbers.Highest()-int64(clamp(d.w, api.MaxMedia))
 }
 
-// allWithin tells whether all numbers of a repair are. Those that are stored need no
-// look of their own: what falls out of the window is removed at once.
-func (d *Decoder) allWithin(r *api.Repair, newest int64) bool {
+// allWithin tells whether all numbers of a repair are. They are extended at each call:
+// once the newest number has jumped by almost half the circle, what was behind is ahead.
+// Those that are stored need no look of their own: they are within the window.
+func (d *Decoder) allWithin(r *api.Repair) bool {
 	for _, n := range cover.Each(r.Base, maskOf(r)) {
-		if !d.within(n, newest) {
+		if !d.within(d.numbers.Peek(n)) {
 			return false
 		}
 	}
@@ -52,28 +53,21 @@ func (d *Decoder) first(r *api.Repair) int64 {
 
 // store keeps a packet, and removes what is too old from then on.
 func (d *Decoder) store(seq uint16, b []byte) {
-	if !d.numbers.Started() {
-		d.packets = map[uint16][]byte{}
-		// Only now do the numbers of the repairs have a place ahead or behind.
-		d.numbers.Of(seq)
+	if d.packets == nil {
+		d.packets = map[uint16]kept{}
 	}
-	// Ahead of Of: once the newest number has jumped by almost half the circle, those
-	// that were behind the former one would count as ahead of it.
-	d.removeOld(max(d.numbers.Highest(), d.numbers.Peek(seq)))
-	d.numbers.Of(seq)
-	d.packets[seq] = bytes.Clone(b)
+	d.packets[seq] = kept{at: d.numbers.Of(seq), data: bytes.Clone(b)}
+	d.removeOld()
 }
 
-// removeOld removes what isn't within the window that a newest number ends.
-func (d *Decoder) removeOld(newest int64) {
-	for n := range d.packets {
-		if !d.within(n, newest) {
+// removeOld removes what isn't within the window any more.
+func (d *Decoder) removeOld() {
+	for n, p := range d.packets {
+		if !d.within(p.at) {
 			delete(d.packets, n)
 		}
 	}
-	d.repairs = slices.DeleteFunc(d.repairs, func(r *api.Repair) bool {
-		return !d.allWithin(r, newest)
-	})
+	d.repairs = slices.DeleteFunc(d.repairs, func(r *api.Repair) bool { return !d.allWithin(r) })
 }
 
 // makeRoom removes a repair for a new one, if there are as many as may be. It tells

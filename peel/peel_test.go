@@ -88,7 +88,7 @@ func numbersOf(r api.Repair) []uint16 {
 	return list
 }
 
-// model is the decoder, with extended numbers all through.
+// model is the decoder, with extended numbers all through: those of packets are kept, those of repairs are told anew each time.
 type model struct {
 	source  uint32
 	w, r    int
@@ -100,8 +100,7 @@ type model struct {
 
 type held struct {
 	api.Repair
-	numbers []int64
-	gone    bool
+	gone bool
 }
 
 func newModel(source uint32, w, r int) *model {
@@ -116,9 +115,10 @@ func (m *model) extend(n uint16) int64 {
 	return least + int64(n-uint16(least))
 }
 
-func (m *model) extendAll(ns []uint16) []int64 {
+// numbers is the numbers of a repair, extended as of now.
+func (m *model) numbers(h *held) []int64 {
 	var list []int64
-	for _, n := range ns {
+	for _, n := range numbersOf(h.Repair) {
 		list = append(list, m.extend(n))
 	}
 	return list
@@ -128,14 +128,12 @@ func (m *model) within(at int64) bool { return !m.started || at > m.newest-int64
 
 func (m *model) stored(at int64) bool { return m.packets[at] != nil }
 
-// lacks tells whether one of some numbers is neither within the window nor stored.
-func (m *model) lacks(numbers []int64) bool {
-	return slices.ContainsFunc(numbers, func(at int64) bool { return !m.within(at) && !m.stored(at) })
+// lacks tells whether one of a repair's numbers is neither within the window nor stored.
+func (m *model) lacks(h *held) bool {
+	return slices.ContainsFunc(m.numbers(h), func(at int64) bool { return !m.within(at) && !m.stored(at) })
 }
 
-func (m *model) missing(numbers []int64) []int64 {
-	return slices.DeleteFunc(slices.Clone(numbers), m.stored)
-}
+func (m *model) missing(h *held) []int64 { return slices.DeleteFunc(m.numbers(h), m.stored) }
 
 func (m *model) held() []*held {
 	return slices.DeleteFunc(slices.Clone(m.repairs), func(h *held) bool { return h.gone })
@@ -160,23 +158,23 @@ func (m *model) media(b []byte) ([]Got, api.Errno) {
 }
 
 func (m *model) repair(r api.Repair) ([]Got, api.Errno) {
-	h := &held{Repair: r, numbers: m.extendAll(numbersOf(r))}
+	h := &held{Repair: r}
 	switch {
-	case len(h.numbers) == 0:
+	case len(m.numbers(h)) == 0:
 		return nil, api.ErrBits
-	case m.lacks(h.numbers):
+	case m.lacks(h):
 		return nil, api.ErrOld
-	case len(m.missing(h.numbers)) == 0:
+	case len(m.missing(h)) == 0:
 		return nil, api.ErrKnown
 	}
 	if all := m.held(); len(all) == m.r {
 		least := all[0]
 		for _, x := range all {
-			if x.numbers[0] < least.numbers[0] {
+			if m.numbers(x)[0] < m.numbers(least)[0] {
 				least = x
 			}
 		}
-		if h.numbers[0] < least.numbers[0] {
+		if m.numbers(h)[0] < m.numbers(least)[0] {
 			return nil, api.ErrOld
 		}
 		least.gone = true
@@ -186,17 +184,11 @@ func (m *model) repair(r api.Repair) ([]Got, api.Errno) {
 }
 
 func (m *model) store(at int64, b []byte) {
-	if !m.started {
-		m.started, m.newest = true, at
-		for _, h := range m.repairs {
-			h.numbers = m.extendAll(numbersOf(h.Repair))
-		}
-	}
-	m.newest = max(m.newest, at)
+	m.started, m.newest = true, max(m.newest, at)
 	m.packets[at] = b
 	maps.DeleteFunc(m.packets, func(at int64, _ []byte) bool { return !m.within(at) })
 	for _, h := range m.repairs {
-		h.gone = h.gone || m.lacks(h.numbers)
+		h.gone = h.gone || m.lacks(h)
 	}
 }
 
@@ -205,7 +197,7 @@ func (m *model) recover() []Got {
 	for {
 		before := len(got)
 		for _, h := range m.repairs {
-			if missing := m.missing(h.numbers); !h.gone && len(missing) < 2 {
+			if missing := m.missing(h); !h.gone && len(missing) < 2 {
 				if b, ok := m.one(h, missing); ok {
 					m.store(missing[0], b)
 					got = append(got, Got{uint16(missing[0]), b, true})
@@ -224,7 +216,7 @@ func (m *model) one(h *held, missing []int64) ([]byte, bool) {
 		return nil, false
 	}
 	left := h.Repair
-	for _, at := range h.numbers {
+	for _, at := range m.numbers(h) {
 		if at != missing[0] {
 			addTo(&left, m.packets[at])
 		}
@@ -751,24 +743,15 @@ func TestEviction(t *testing.T) {
 	}
 }
 
-// P16.2, P16.3: numbers that are too old stay so, however far the newest one jumps.
-func TestJump(t *testing.T) {
+// P16.2, P16.3: packets that are too old are removed, however far the newest number jumps.
+func TestJumpOfPackets(t *testing.T) {
 	for jump := 32600; jump < 32768; jump++ {
 		p := newPair(t, ssrc, 64, 16)
 		for at := 1000; at < 1064; at++ {
-			if at%2 == 0 {
-				p.media(packet(at))
-			}
+			p.media(packet(at))
 		}
-		p.media(packet(1063))
-		for at := 1001; at < 1060; at += 4 {
-			p.repair(repair(at, at+2))
-		}
-		if p.d.Len() != 33 || p.d.Repairs() != 15 {
-			t.Fatalf("%d packets, %d repairs", p.d.Len(), p.d.Repairs())
-		}
-		if got, e := p.media(packet(1063 + jump)); e != api.OK || len(got) != 1 || p.d.Len() != 1 || p.d.Repairs() != 0 {
-			t.Fatalf("jump %d: %v %d, %d packets, %d repairs", jump, placesOf(got), e, p.d.Len(), p.d.Repairs())
+		if got, e := p.media(packet(1063 + jump)); e != api.OK || len(got) != 1 || p.d.Len() != 1 {
+			t.Fatalf("jump %d: %v %d, %d packets", jump, placesOf(got), e, p.d.Len())
 		}
 		// A turn later, the same numbers are those of other packets.
 		p.media(packet(50000))
@@ -777,6 +760,98 @@ func TestJump(t *testing.T) {
 				t.Fatalf("jump %d: %v %d", jump, got, e)
 			}
 		}
+	}
+}
+
+// P16.1: after a jump, the numbers of stored repairs are what Peek returns then: a repair stays if
+// all of them are more than half the circle behind, and so ahead. The same repair is accepted again
+// just then.
+func TestJumpOfRepairs(t *testing.T) {
+	for jump := 32600; jump < 32768; jump++ {
+		p := newPair(t, ssrc, 64, 16)
+		for at := 1000; at < 1064; at += 2 {
+			p.media(packet(at))
+		}
+		p.media(packet(1063))
+		stay := 0
+		for at := 1001; at < 1060; at += 4 {
+			// The packet between the two is stored, until the jump.
+			if _, e := p.repair(repair(at, at+1, at+2)); e != api.OK {
+				t.Fatalf("the repair of %d: %d", at, e)
+			}
+			if 1063+jump-(at+2) > 32768 {
+				stay++
+			}
+		}
+		if got, e := p.media(packet(1063 + jump)); e != api.OK || len(got) != 1 || p.d.Len() != 1 || p.d.Repairs() != stay {
+			t.Fatalf("jump %d: %v %d, %d packets, %d repairs, want %d", jump, placesOf(got), e, p.d.Len(), p.d.Repairs(), stay)
+		}
+		for at := 1001; at < 1060; at += 4 {
+			want := api.ErrOld
+			if 1063+jump-(at+2) > 32768 {
+				want = api.OK
+			}
+			if _, e := p.repair(repair(at, at+1, at+2)); e != want {
+				t.Fatalf("jump %d, the repair of %d again: %d, want %d", jump, at, e, want)
+			}
+		}
+	}
+}
+
+// P16.1: a repair whose numbers are ahead after a jump waits for its packets.
+func TestRepairOfTheFarSide(t *testing.T) {
+	start := func(r int) pair {
+		p := newPair(t, ssrc, 5, r)
+		p.repair(repair(65533, 65534, 65535))
+		p.media(packet(1))
+		if p.d.Repairs() != 1 {
+			t.Fatalf("with 1: %d repairs", p.d.Repairs())
+		}
+		if got, e := p.media(packet(32768)); e != api.OK || len(got) != 1 || p.d.Len() != 1 || p.d.Repairs() != 1 {
+			t.Fatalf("with 32768: %v %d, %d packets, %d repairs", placesOf(got), e, p.d.Len(), p.d.Repairs())
+		}
+		return p
+	}
+	p := start(1)
+	p.media(packet(65533))
+	if got, e := p.media(packet(65535)); e != api.OK || !slices.Equal(placesOf(got), []int{65535, 65534}) || p.d.Repairs() != 0 {
+		t.Errorf("%v %d, %d repairs", placesOf(got), e, p.d.Repairs())
+	}
+	// It is one of R, and its first number is that far ahead.
+	p = start(1)
+	if _, e := p.repair(repair(65532, 65535)); e != api.ErrOld || p.d.Repairs() != 1 {
+		t.Errorf("a repair behind it: %d", e)
+	}
+	if _, e := p.repair(repair(65534, 65535)); e != api.OK || p.d.Repairs() != 1 {
+		t.Errorf("a repair ahead of it: %d", e)
+	}
+	if got, _ := p.media(packet(65534)); !slices.Equal(placesOf(got), []int{65534, 65535}) {
+		t.Errorf("%v", placesOf(got))
+	}
+	p = start(2)
+	p.repair(repair(32769, 32770))
+	p.repair(repair(32771, 32772))
+	if got, _ := p.media(packet(32770)); p.d.Repairs() != 2 || len(got) != 1 {
+		t.Errorf("not that of 32769 was removed: %v", placesOf(got))
+	}
+	// It is too old once its packets are just behind again.
+	p = start(1)
+	p.media(packet(50000))
+	p.media(packet(65537))
+	if p.d.Repairs() != 1 {
+		t.Errorf("with 65537: %d repairs", p.d.Repairs())
+	}
+	p.media(packet(65538))
+	if p.d.Repairs() != 0 {
+		t.Errorf("with 65538: %d repairs", p.d.Repairs())
+	}
+	// Half the circle apart is behind.
+	p = newPair(t, ssrc, 5, 1)
+	p.repair(repair(65533, 65534, 65535))
+	p.media(packet(0))
+	p.media(packet(32767))
+	if p.d.Repairs() != 0 {
+		t.Errorf("%d repairs", p.d.Repairs())
 	}
 }
 
@@ -812,7 +887,8 @@ func TestGenuine(t *testing.T) {
 			}
 			at := newest - random.Intn(60) + random.Intn(10)
 			if started && random.Intn(100) == 0 {
-				at = newest + random.Intn(32768)
+				// Not so far that numbers which are just behind would become numbers ahead.
+				at = newest + random.Intn(32768-64)
 			}
 			got, e := d.Media(packet(at))
 			if e == api.OK {
